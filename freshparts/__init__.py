@@ -1,0 +1,1 @@
+"""Freshparts: parts put anew by chances, beat by beat, told exactly."""
