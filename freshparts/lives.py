@@ -1,5 +1,5 @@
 """LIVES: the chances by which a part lasts 1, 2 and on beats, a row and a step behind it."""
-from freshparts.ratios import NOUGHT, ONE, is_below, is_ratio, minus, over, times
+from freshparts.ratios import NOUGHT, ONE, is_below, is_ratio, minus, over, ratio, times
 from freshparts.rows import added, on_one_bottom
 
 
@@ -49,6 +49,17 @@ def chance_at(life, k):
 def lasting(life, k):
     """The chance that a part lasts more than k beats, k from 0 on."""
     return minus(ONE, added(chances_to(life, k)))
+
+
+def lastings_to(life, most):
+    """LASTING 0 to LASTING most, a list."""
+    tops, bottom = on_one_bottom(chances_to(life, most))
+    left = bottom
+    told = [ONE]
+    for top in tops:
+        left -= top
+        told.append(ratio(left, bottom))
+    return told
 
 
 def miss(life):

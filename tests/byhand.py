@@ -91,3 +91,47 @@ SAMPLES = (
     life("1/12 1/12 1/12 1/12 1/12 1/12 1/12 1/12 1/12 1/12 1/12 1/12"),
     life("1/999999937 0 3/100000007 1/7 0 0 1/123456789 2/999999929 0 1/3 0 1/987654321", "7/9"),
 )
+
+FULL = tuple(told for told in SAMPLES if lack(told) == 0) + (
+    life("0 0 0 1"),
+    life("0 1/2 0 1/2 0"),
+    life("0 0 0 0 0 0 0 0 0 0 0 1"),
+    life("1 0 0", "8/9"),
+    life("0 1/2 1/2 0", "1/2"),
+    life("1/9", "8/9"),
+    life("0 1/5 1/10 7/20", "1/2"),
+    life("1/3 1/9 2/9", "3/5"),
+    life("999999936/999999937 1/999999937"),
+    life("1/6 1/6 1/6 1/6 1/6 1/6"),
+    life("0 0 1/2 0 0 1/4 0 0 0 0 0 1/4"),
+    life("1/7 0 2/7 0 0 4/7 0 0 0 0 0 0"),
+)
+BOUNDED_FULL = tuple(told for told in FULL if told[1] == NOUGHT)
+
+
+def middle(told):
+    """The MEAN of a stretch of a FULL LIFE, a Fraction: each k times the CHANCE AT k, added."""
+    row, step = told
+    within = sum(k * at(told, k) for k in range(1, len(row) + 1))
+    end, by = number(row[-1]), number(step)
+    # The sums over j from 1 on of by^j and of j by^j are by / (1 - by) and by / (1 - by)^2.
+    return within + end * (len(row) * by / (1 - by) + by / (1 - by) ** 2)
+
+
+def beats_between(told):
+    """The ROUND of a LIFE that has a CHANCE above nought, by trying all."""
+    ends = [k for k in range(1, 41) if at(told, k) != 0]
+    return max(many for many in range(1, 41) if all(k % many == 0 for k in ends))
+
+
+def things():
+    """Things of all kinds, none of them a paper or a WAY."""
+    deep, wide, keyed = (), [], {}
+    for turn in range(19):
+        deep, wide, keyed = (deep,), [wide, turn], {"in": keyed}
+    great = 10 ** 199 + 153
+    return [None, True, False, 0, 1, -5, great, -great, "", "shape", "((1, 1), (1, 1), ((),), ())", [], {}, (None,),
+            (True,), (False,), (0,), (-1,), ("1",), ([1],), ({},), ((),), ((1,),), deep, wide, keyed, (deep,) * 3,
+            (deep,) * 4, (wide,) * 3, (wide,) * 4, (keyed,) * 3, (keyed,) * 4, [0] * 1990, ("",) * 1990,
+            (None, None, None), (None, None, None, None), ("", "", ""), ("", "", "", ""), {0: (1, 1), 1: (1, 1)},
+            (0, 0, 0), (0, 0, 0, 0), ((0, 0),) * 3, ((0, 0),) * 4, (great, (1, 0), (1, 0)), "a" * 2000]
