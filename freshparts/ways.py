@@ -26,5 +26,6 @@ def all_ways(life, beat):
     found = [[()]]
     for end in range(1, beat + 1):
         firsts = [k for k in range(1, end + 1) if chances[k - 1] != NOUGHT]
-        found.append([(k, *rest) for k in firsts for rest in found[end - k]])
+        reached = [(k, *rest) for k in firsts for rest in found[end - k]]
+        found.append(reached)
     return found[beat]

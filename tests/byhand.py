@@ -135,3 +135,15 @@ def things():
             (deep,) * 4, (wide,) * 3, (wide,) * 4, (keyed,) * 3, (keyed,) * 4, [0] * 1990, ("",) * 1990,
             (None, None, None), (None, None, None, None), ("", "", ""), ("", "", "", ""), {0: (1, 1), 1: (1, 1)},
             (0, 0, 0), (0, 0, 0, 0), ((0, 0),) * 3, ((0, 0),) * 4, (great, (1, 0), (1, 0)), "a" * 2000]
+
+
+def long_rows():
+    """FULL LIVES with rows of up to sixty CHANCES, SHORT and not, with a step and without."""
+    rising = [Fraction(k, 1830) for k in range(1, 61)]
+    halves = [Fraction(1, 2 ** k) for k in range(1, 28)]
+    great = [Fraction(1, 999999937 - 2 * k) for k in range(59)]
+    told = [([Fraction(1, 60)] * 60, 0), (rising, 0), (rising[::-1], 0), ([Fraction(0)] * 59 + [Fraction(1)], 0),
+            ([Fraction(1)] + [Fraction(0)] * 59, 0), (halves, Fraction(1, 2)), (great + [1 - sum(great)], 0),
+            ([Fraction(0)] * 59 + [Fraction(1, 9)], Fraction(8, 9)), ([Fraction(1, 59)] * 59, 0),
+            ([Fraction(1, 68)] * 60, Fraction(8, 9)), ([Fraction(1, 25)] * 25 + [Fraction(0)] * 10, Fraction(1, 3))]
+    return [(tuple(pair(chance) for chance in row), pair(Fraction(step))) for row, step in told]

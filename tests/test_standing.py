@@ -6,10 +6,10 @@ from freshparts.counts import many_by
 from freshparts.making import behind, left_of
 from freshparts.means import mean
 from freshparts.puts import puts
-from freshparts.ratios import is_ratio
 from freshparts.standing import age_and_left, ages, lefts, mean_left, stays, stretches
 
 from byhand import COIN, EMPTY, FULL, GEOMETRIC, SAMPLES, at, lack, last, life, middle, number, pair, way_chance, ways
+from telling import Told
 
 ALL = SAMPLES + FULL[len(FULL) - 12:]
 
@@ -19,20 +19,6 @@ def parts(told, beat):
     for end in range(beat + 1):
         for way in ways(end):
             yield beat - end, way_chance(told, way)
-
-
-class Told(unittest.TestCase):
-    def right(self, found, expected):
-        self.assertEqual(found, tuple(pair(Fraction(chance)) for chance in expected))
-        self.assertIs(type(found), tuple)
-        for chance in found:
-            self.assertTrue(is_ratio(chance))
-            self.assertIs(type(chance), tuple)
-
-    def one(self, found, expected):
-        self.assertEqual(found, pair(Fraction(expected)))
-        self.assertTrue(is_ratio(found))
-        self.assertIs(type(found), tuple)
 
 
 class Ages(Told):
