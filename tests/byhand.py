@@ -147,3 +147,60 @@ def long_rows():
             ([Fraction(0)] * 59 + [Fraction(1, 9)], Fraction(8, 9)), ([Fraction(1, 59)] * 59, 0),
             ([Fraction(1, 68)] * 60, Fraction(8, 9)), ([Fraction(1, 25)] * 25 + [Fraction(0)] * 10, Fraction(1, 3))]
     return [(tuple(pair(chance) for chance in row), pair(Fraction(step))) for row, step in told]
+
+
+def kinds(*lines):
+    """The KINDS of these lines ("1>0:1/2 3>1:1/2"), one for each kind."""
+    return tuple(tuple(triple(word) for word in line.split()) for line in lines)
+
+
+def triple(word):
+    """The triple of a word "1>0:1/2"."""
+    stretch, rest = word.split(">")
+    follower, chance = rest.split(":")
+    return (int(stretch), int(follower), pair(Fraction(chance)))
+
+
+# KINDS of one to four kinds: FULL or some lacking, some (), some that follow themselves, some that are never led to.
+ALL_KINDS = (
+    kinds(""),
+    kinds("1>0:1"),
+    kinds("6>0:1"),
+    kinds("1>0:1/2 2>0:1/4"),
+    kinds("1>0:1/6 2>0:1/6 3>0:1/6 4>0:1/6 5>0:1/6 6>0:1/6"),
+    kinds("", ""),
+    kinds("1>1:1", "1>0:1"),
+    kinds("2>0:1", "3>1:1"),
+    kinds("1>0:1/2 1>1:1/2", "3>0:2/3 6>0:1/3"),
+    kinds("1>0:1/2 1>1:1/4 2>1:1/8", "2>0:1/3 2>1:1/3 6>1:1/3"),
+    kinds("3>0:1", "1>0:1/2 2>0:1/2"),
+    kinds("2>1:1", "2>1:1"),
+    kinds("1>1:1", "2>0:1", "1>0:1/2 4>1:1/2"),
+    kinds("1>0:1", "1>0:1/3 1>1:1/3 1>2:1/3", "5>2:1"),
+    kinds("1>1:1", "1>2:1", "1>0:1"),
+    kinds("1>1:1/2 6>2:1/3", "", "1>0:1/999 2>0:998/999"),
+    kinds("1>2:1", "2>2:1", "3>0:1/7 3>1:2/7 4>2:4/7"),
+    kinds("1>1:1", "1>0:1", "2>3:1", "2>2:1"),
+    kinds("1>1:1", "2>2:1", "3>3:1", "4>0:1"),
+    kinds("1>0:1/4 1>1:1/4 1>2:1/4 1>3:1/4", "2>0:1/4 3>1:1/4 4>2:1/4 5>3:1/4", "6>0:1", "1>2:1/2 2>2:1/2"),
+    kinds("1>1:1/2 1>2:1/2", "1>1:1", "1>2:1", "1>0:1/3 1>1:1/3 1>3:1/3"),
+    kinds("1>3:5/7 6>3:2/7", "1>0:1/2 2>0:1/2", "1>1:1/3 2>0:2/3", "2>3:1/2 3>3:1/2"),
+    kinds("1>3:5/7 6>3:1/7", "1>0:1/2", "", "2>3:1/2 3>2:1/2"),
+)
+FULL_KINDS = tuple(told for told in ALL_KINDS if all(sum(number(one[2]) for one in kind) == 1 for kind in told))
+
+
+def kind_ways(told, first, most):
+    """Each row of what is PUT up to the beat most and its chance: pairs (beat, kind), the last one standing there."""
+    def go(row, chance):
+        beat, kind = row[-1]
+        stays = 1 - sum((number(one[2]) for one in told[kind] if beat + one[0] <= most), Fraction(0))
+        if stays:
+            found.append((tuple(row), chance * stays))
+        for stretch, follower, part in told[kind]:
+            if beat + stretch <= most:
+                go([*row, (beat + stretch, follower)], chance * number(part))
+
+    found = []
+    go([(0, first)], Fraction(1))
+    return found
