@@ -190,6 +190,13 @@ ALL_KINDS = (
 FULL_KINDS = tuple(told for told in ALL_KINDS if all(sum(number(one[2]) for one in kind) == 1 for kind in told))
 
 
+def plain_chain(told):
+    """The CHAIN, lists of Fractions."""
+    many = range(len(told))
+    return [[sum((number(one[2]) for one in told[kind] if one[1] == follower), Fraction(0)) for follower in many]
+            for kind in many]
+
+
 def kind_ways(told, first, most):
     """Each row of what is PUT up to the beat most and its chance: pairs (beat, kind), the last one standing there."""
     def go(row, chance):
