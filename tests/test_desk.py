@@ -154,7 +154,8 @@ class Rows(Asked):
     def test_by_written_answers(self):
         for row, answer in (
                 ("names", "-"), ("undo", "none"), ("life a 1/2 1/2", "1/2 1/2"), ("life b 1/2 ; 1/2", "1/2 ; 1/2"),
-                ("names", "a b"), ("show a", "1/2 1/2"), ("behind c a a", "0 1/4 1/2 1/4"), ("cut d b 3", "1/2 1/4 1/4"),
+                ("names", "a b"), ("show a", "1/2 1/2"), ("behind c a a", "0 1/4 1/2 1/4"),
+                ("cut d b 3", "1/2 1/4 1/4"),
                 ("left e b 4", "1/2 ; 1/2"), ("left f a 1", "1"), ("left f a 0", "1/2 1/2"),
                 ("later g a 4", "0 0 0 0 1/2 1/2"), ("later g b 2", "0 0 1/2 ; 1/2"), ("later g a 0", "1/2 1/2"),
                 ("mean a", "3/2"), ("mean b", "2"), ("share a", "2/3"), ("round a", "1"), ("miss a", "0"),
@@ -188,7 +189,8 @@ class Rows(Asked):
         self.says("names", "-")
         for name in ("", "abcdefg", "A", "aB", "a1", "1", "a-b", "-", "a.", "a_b", "~", "{", "`"):
             for row in (f"life {name} 1", f"drop {name}", f"show {name}", f"cut {name} a 1", f"cut a {name} 1",
-                        f"behind {name} a a", f"behind a {name} a", f"behind a a {name}", f"mean {name}", f"put {name} 1"):
+                        f"behind {name} a a", f"behind a {name} a", f"behind a a {name}", f"mean {name}",
+                        f"put {name} 1"):
                 self.no_row(row)
 
     def test_names_rising(self):
@@ -198,7 +200,8 @@ class Rows(Asked):
 
     def test_a_word_too_few_and_too_many_blanks_and_other_signs(self):
         self.says("life a 1/2 1/2", "1/2 1/2")
-        for row in ("drop a", "names", "show a", "undo", "behind a a a", "cut a a 2", "left a a 1", "later a a 1", "mean a",
+        for row in ("drop a", "names", "show a", "undo", "behind a a a", "cut a a 2", "left a a 1", "later a a 1",
+                    "mean a",
                     "share a", "round a", "miss a", "put a 2", "many a 2", "ages a 2", "counts a 2", "even a 2"):
             words = row.split(" ")
             for wrong in (" ".join(words[:-1]), row + " a", row + " 1", row + " ", " " + row, row + "  ", row.upper(),
@@ -208,7 +211,8 @@ class Rows(Asked):
             if len(words) > 1:
                 self.no_row(row.replace(" ", "  ", 1))
                 self.no_row(row.replace(" ", "_"))
-        for row in ("", " ", "  ", "life", "life a", "life  1/2", "life", " life a 1", "Life a 1", "lifea 1", "ask a", "beat a 1",
+        for row in ("", " ", "  ", "life", "life a", "life  1/2", "life", " life a 1", "Life a 1", "lifea 1", "ask a",
+                    "beat a 1",
                     "-", "a", "1", "x" * 2000, "names names", "undo undo", "life ab1 1", "life abcdefg 1"):
             self.no_row(row)
         self.says("names", "a")
@@ -222,7 +226,8 @@ class Rows(Asked):
             begin = f"{word} b a" if word in most else f"{word} a"
             for number in range(least.get(word, 0), most.get(word, 20) + 1):
                 self.assertIs(type(self.desk.say(f"{begin} {number}")), str)
-            for number in (least.get(word, 0) - 1, most.get(word, 20) + 1, 21, 99, 100, 10 ** 30, "00", "01", "012", "+1",
+            for number in (least.get(word, 0) - 1, most.get(word, 20) + 1, 21, 99, 100, 10 ** 30, "00", "01", "012",
+                           "+1",
                            "-0", "1.0", "1/2", "a", "", "-", "1_0", "0x1", "007"):
                 self.no_row(f"{begin} {number}")
 
@@ -238,8 +243,10 @@ class Rows(Asked):
 class Refusals(Asked):
     def test_names_that_are_not_kept_the_first_such(self):
         self.says("life a 1", "1")
-        for row in ("drop x", "show x", "behind n x a", "behind n a x", "behind x x x", "cut n x 1", "left n x 1", "later n x 1",
-                    "mean x", "share x", "round x", "miss x", "put x 1", "many x 1", "ages x 1", "counts x 1", "even x 1",
+        for row in ("drop x", "show x", "behind n x a", "behind n a x", "behind x x x", "cut n x 1", "left n x 1",
+                    "later n x 1",
+                    "mean x", "share x", "round x", "miss x", "put x 1", "many x 1", "ages x 1", "counts x 1",
+                    "even x 1",
                     "behind n x y"):
             self.refuses(row, NoName, "x")
         self.refuses("behind n y x", NoName, "y")
@@ -263,7 +270,8 @@ class Refusals(Asked):
         self.says("names", "a b")
 
     def test_texts_that_cant_be_read(self):
-        for text, at in (("", 0), (" ", 0), ("x", 0), ("1/2 x", 1), ("1/2  1/2", 1), ("1/2 ;", 2), ("- -", 1), (" 1", 0),
+        for text, at in (("", 0), (" ", 0), ("x", 0), ("1/2 x", 1), ("1/2  1/2", 1), ("1/2 ;", 2), ("- -", 1),
+                         (" 1", 0),
                          ("1/2 1/2 1/2", 2), ("1 ; 1/2", 2), (" ".join(["1/99"] * 100), 99), ("1/1000", 0)):
             self.refuses("life a " + text, NoText, at)
             self.says("names", "-")
@@ -405,8 +413,10 @@ class Undo(Asked):
 
 
 class Many(unittest.TestCase):
-    TEXTS = ("1", "0 1", "1/2 1/2", "1/2 ; 1/2", "-", "1/3 1/3 1/3", "0 1/3 0 2/3", "1/2 1/4 0 0", "0 ; 1/2", "1/7 ; 6/7",
-             "1/999 0 5/998", "1/2 x", "", "1/2 1/2 1/2", " ".join(["1/13"] * 13), "1/4 1/4 ; 1/3", "1/997", "3/7 1/991")
+    TEXTS = ("1", "0 1", "1/2 1/2", "1/2 ; 1/2", "-", "1/3 1/3 1/3", "0 1/3 0 2/3", "1/2 1/4 0 0", "0 ; 1/2",
+             "1/7 ; 6/7",
+             "1/999 0 5/998", "1/2 x", "", "1/2 1/2 1/2", " ".join(["1/13"] * 13), "1/4 1/4 ; 1/3", "1/997",
+             "3/7 1/991")
 
     def row(self, chooser):
         names = ("a", "b", "c", "dd", "undo")
@@ -432,8 +442,10 @@ class Many(unittest.TestCase):
                 expected = outcome(plain, row)
                 self.assertEqual(outcome(desk, row), expected, row)
                 seen.add(expected[0] if isinstance(expected, tuple) else row.split(" ")[0])
-        self.assertEqual(seen, {"life", "drop", "names", "show", "undo", "behind", "cut", "left", "later", "mean", "share",
-                                "round", "miss", "put", "many", "ages", "counts", "even", "NoRow", "NoName", "NoText", "NoAge",
+        self.assertEqual(seen, {"life", "drop", "names", "show", "undo", "behind", "cut", "left", "later", "mean",
+                                "share",
+                                "round", "miss", "put", "many", "ages", "counts", "even", "NoRow", "NoName", "NoText",
+                                "NoAge",
                                 "TooMany"})
 
     def test_two_desks_by_turns_each_by_itself(self):
@@ -465,8 +477,10 @@ class Many(unittest.TestCase):
 
     def test_answers_of_great_lives(self):
         desk, plain = Desk(), PlainDesk()
-        for row in ("life a " + " ".join(f"1/{bottom}" for bottom in (997, 991, 983, 977, 971, 967, 953, 947, 941, 937, 929, 919)),
-                    "ages a 20", "counts a 20", "put a 20", "many a 20", "cut b a 4", "even b 20", "counts b 20", "left c a 1"):
+        bottoms = (997, 991, 983, 977, 971, 967, 953, 947, 941, 937, 929, 919)
+        for row in ("life a " + " ".join(f"1/{bottom}" for bottom in bottoms),
+                    "ages a 20", "counts a 20", "put a 20", "many a 20", "cut b a 4", "even b 20", "counts b 20",
+                    "left c a 1"):
             self.assertEqual(outcome(desk, row), outcome(plain, row), row)
 
 

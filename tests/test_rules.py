@@ -152,7 +152,8 @@ class IsRule(unittest.TestCase):
                 self.no(go([(thing, STOP)]))
 
     def test_other_words_lists_and_lengths(self):
-        for thing in ("stop", "go", ["stop"], ("stop", "stop"), ("stop", ()), ("Stop",), ("go",), ("go", ()), ("go", STOP),
+        for thing in ("stop", "go", ["stop"], ("stop", "stop"), ("stop", ()), ("Stop",), ("go",), ("go", ()),
+                      ("go", STOP),
                       ["go", (), STOP], ("go", [], STOP), ("go", (), ["stop"]), ("go", (), STOP, STOP), (STOP,),
                       ("go", STOP, ()), ("go", {}, STOP), ("go", ([1, STOP],), STOP), ("go", ((1,),), STOP),
                       ("go", ((1, STOP, STOP),), STOP), ("go", (1, STOP), STOP), ("go", "", STOP), ("", (), STOP),
@@ -292,7 +293,8 @@ class Passed(Told):
         copies = copy.deepcopy((LIVES, RULES))
 
         def asked():
-            return [(rule_ends(told, rule), rule_means(told, rule), passed(told, 20)) for told in LIVES for rule in RULES]
+            return [(rule_ends(told, rule), rule_means(told, rule), passed(told, 20))
+                    for told in LIVES for rule in RULES]
 
         self.assertEqual(asked(), asked())
         self.assertEqual((LIVES, RULES), copies)

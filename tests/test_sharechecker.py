@@ -222,8 +222,8 @@ class Shape(Checked):
         apart = ("apart", (0, 1), (2, 3))
         for thing in things():
             for place in range(4):
-                shaped = thing in ((), ((0, 0),) * 3) if place == 3 else place == 1 and type(thing) is int and thing in (0, 1)
-                if not shaped:
+                is_home = place == 1 and type(thing) is int and 0 <= thing < 4
+                if not is_home and not (place == 3 and thing in ((), ((0, 0),) * 3)):
                     self.refuses(FOUR, share[:place] + (thing,) + share[place + 1:], "shape", 0)
                 weights = share[2][:place] + (thing,) + share[2][place + 1:]
                 self.refuses(FOUR, ("share", 0, weights, share[3]), "shape", 0)
@@ -335,7 +335,8 @@ class Whoever(Checked):
         self.assertEqual(set(seen), {"share", "apart", "whole", "weight", "way", "lacks", "both", "out"})
 
     def test_what_is_handed_in_stays_as_it_was_and_the_same_is_told_twice(self):
-        asked = [["share", 0, [[1, 1]], []], ("share", 0, [(2, 3), (1, 3)], ((1, 0),)), ("apart", [0], (1,)), {"a": [1]}]
+        asked = [["share", 0, [[1, 1]], []], ("share", 0, [(2, 3), (1, 3)], ((1, 0),)), ("apart", [0], (1,)),
+                 {"a": [1]}]
         copies = copy.deepcopy((asked, FULL_KINDS))
         for turn in range(2):
             for thing in asked:

@@ -87,7 +87,8 @@ class ShareTold(Told):
             if found[0] == "share":
                 self.assertEqual(len(found), 4)
                 self.assertEqual([type(part) for part in found], [str, int, tuple, tuple])
-                self.assertEqual([[type(way), *map(type, way)] for way in found[3]], [[tuple, int, int]] * len(found[3]))
+                self.assertEqual([[type(way), *map(type, way)] for way in found[3]],
+                                 [[tuple, int, int]] * len(found[3]))
             else:
                 self.assertEqual([type(part) for part in found], [str, tuple, tuple])
 

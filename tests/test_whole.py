@@ -102,7 +102,8 @@ class Ways(Told):
                 for left, chance in enumerate(lefts(told, beat, 6), start=1):
                     self.one(chance, sum(number(age_and_left(told, beat, age, left)) for age in range(beat + 1)))
                 for k, chance in enumerate(stretches(told, beat, 6), start=1):
-                    self.one(chance, sum(number(age_and_left(told, beat, age, k - age)) for age in range(min(k, beat + 1))))
+                    younger = range(min(k, beat + 1))
+                    self.one(chance, sum(number(age_and_left(told, beat, age, k - age)) for age in younger))
 
 
 class Anew(Told):
@@ -312,7 +313,8 @@ class Kinds(Told):
                 rows = kind_puts(told, first, 20)
                 for kind, chance in enumerate(kind_stands(told, first, 20)):
                     own = kind_life(told, kind)
-                    self.one(chance, sum(number(row[kind]) * number(lasting(own, 20 - beat)) for beat, row in enumerate(rows)))
+                    self.one(chance, sum(number(row[kind]) * number(lasting(own, 20 - beat))
+                                         for beat, row in enumerate(rows)))
 
     def test_a_share_paper_that_is_let_by_is_the_only_one(self):
         for told in FULL_KINDS:
